@@ -1,0 +1,1 @@
+"""Wheresay: boxes drawn by saying where."""
