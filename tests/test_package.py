@@ -13,6 +13,11 @@ INTERFACE = {
         "SayError", "BadSaying", "BadSheet", "BadPart", "Clashing", "Unlike", "BadBlocks", "BadRows")},
     "sayings": {name: ("names", "adds", "keeps") for name in ("Saying", "At", "Beside", "Alike", "Amid")},
     "sheets": {"Sheet": ("names", "sayings"), "put": (), "taken": ()},
+    "answers": {"Answer": (), **{name: ("shows",) for name in (
+        "Kept", "Clash", "Known", "Loose", "Follows", "Breaks", "Led", "Walled")}},
+    "settling": {name: () for name in ("drawn", "known", "follows", "moved")},
+    "lines": {"led": ()},
+    "texts": {"written": (), "read": ()},
 }
 BARRED = ("type", "typing", "enum", "Enum", "ABC", "global", "async", "float", "getattr", "exec", "eval")
 

@@ -1,15 +1,23 @@
-"""What counts as a number and as a name."""
+"""What counts as a number, as a pair and as a name."""
 
 LETTERS = "abcdefghijklmnopqrstuvwxyz"
 LONGEST_NAME = 8
 
 
+def is_whole(value):
+    """Tell whether a value is a whole number, however far off."""
+    # Python takes True and False for numbers; the program does not.
+    return isinstance(value, int) and not isinstance(value, bool)
+
+
 def is_number(value, least, most):
     """Tell whether a value is a whole number from the least to the most one."""
-    # Python takes True and False for numbers; the program does not.
-    if isinstance(value, bool) or not isinstance(value, int):
-        return False
-    return least <= value <= most
+    return is_whole(value) and least <= value <= most
+
+
+def is_pair(value):
+    """Tell whether a value is a pair of whole numbers."""
+    return isinstance(value, tuple) and len(value) == 2 and all([is_whole(one) for one in value])
 
 
 def is_name(value):

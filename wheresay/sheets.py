@@ -1,8 +1,8 @@
 """Sheets: names of boxes and sayings of them."""
 
 from wheresay.errors import BadSheet
-from wheresay.kinds import are_unlike_names, is_number
-from wheresay.sayings import Alike, Amid, At, Beside
+from wheresay.kinds import are_unlike_names, is_name, is_number
+from wheresay.sayings import PARTS, Alike, Amid, At, Beside
 
 MOST_NAMES = 6
 MOST_SAYINGS = 16
@@ -32,10 +32,15 @@ def check_sayings(sayings, names):
         raise BadSheet("a sheet has sayings of its names only")
 
 
+def check_sheet(value):
+    """Refuse what is no sheet."""
+    if not isinstance(value, Sheet):
+        raise BadSheet("this is no sheet")
+
+
 def check_place(sheet, at, behind):
     """Refuse what is no sheet, and a place ahead of the first one or too far behind the last one."""
-    if not isinstance(sheet, Sheet):
-        raise BadSheet("this is no sheet")
+    check_sheet(sheet)
     if not is_number(at, 0, len(sheet.sayings()) - 1 + behind):
         raise BadSheet("the sheet has no such place")
 
@@ -56,6 +61,13 @@ class Sheet:
     def sayings(self):
         """Tell the sayings, in their turn."""
         return list(self.said)
+
+
+def has_part(sheet, name, part):
+    """Tell whether a sheet has a box of this name, and boxes have this part."""
+    if not is_name(name) or not isinstance(part, str):
+        return False
+    return name in sheet.names() and part in PARTS
 
 
 def put(sheet, at, saying):
