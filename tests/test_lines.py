@@ -212,7 +212,8 @@ class Refused(unittest.TestCase):
             self.refused({"a": (0, 0, 1, 1), wrong: (9, 9, 1, 1)}, "a", wrong)
 
     def test_blocks_that_are_no_tuple_of_numbers(self):
-        for wrong in others() + [[9, 9, 1, 1], (9, 9, 1), (9, 9, 1, 1, 1), (), ((9, 1), (9, 1), (1, 1), (1, 1)), "9911"]:
+        for wrong in others() + [[9, 9, 1, 1], (9, 9, 1), (9, 9, 1, 1, 1), (), ((9, 1), (9, 1), (1, 1), (1, 1)),
+                                 "9911"]:
             self.refused({**NEAR, "c": wrong})
             self.refused({"a": (0, 0, 1, 1), "b": wrong})
 
@@ -232,7 +233,8 @@ class Refused(unittest.TestCase):
             for right in (least, most):
                 block = [9, 9, 1, 1]
                 block[at] = right
-                self.assertIs(led({"a": (0, -9, 1, 1), "b": (-4, -9, 1, 1), "c": tuple(block)}, "a", "b").__class__, Led)
+                blocks = {"a": (0, -9, 1, 1), "b": (-4, -9, 1, 1), "c": tuple(block)}
+                self.assertIs(led(blocks, "a", "b").__class__, Led)
         self.refused({**NEAR, "c": (9, 9, 0, 1)})
         self.refused({**NEAR, "c": (9, 9, 1, 0)})
 
@@ -436,7 +438,8 @@ class OfLed(Base):
     def test_straight_back_needs_no_height(self):
         # Between three walls leads a way to the right; none leads out but straight back.
         blocks = {
-            "a": (0, 0, 1, 1), "b": (0, 6, 1, 1), "above": (4, -3, 3, 1), "below": (4, 0, 3, 1), "behind": (8, -3, 1, 4)}
+            "a": (0, 0, 1, 1), "b": (0, 6, 1, 1), "above": (4, -3, 3, 1), "below": (4, 0, 3, 1),
+            "behind": (8, -3, 1, 4)}
         there = Map(blocks, "a", "b")
         way, heights, more = led(blocks, "a", "b").points, there.heights(), there.heights(True)
         self.assertIn((5, -1, "right"), heights)
@@ -452,8 +455,8 @@ class OfLed(Base):
     def test_heights_that_are_no_pairs_of_numbers(self):
         for triple in ((2, 1, "right"), (4, 1, "right"), (3, 1, "right"), (2, 0, "up")):
             bends, steps = self.heights[triple]
-            for wrong in ([bends, steps], (bends,), (bends, steps, 0), None, 0, "ab", (bends, None), (str(bends), steps),
-                          (False, steps), (bends, True), True, (), ((bends, steps),)):
+            for wrong in ([bends, steps], (bends,), (bends, steps, 0), None, 0, "ab", (bends, None),
+                          (str(bends), steps), (False, steps), (bends, True), True, (), ((bends, steps),)):
                 self.no(self.points, {**self.heights, triple: wrong})
         self.no(self.points, {**self.heights, (-1, 0, "right"): None})
 

@@ -155,7 +155,8 @@ class Refused(unittest.TestCase):
 
     def test_rows_of_boxes(self):
         for wrong in ("box", "box ", "box  b", "box b ", " box b", "box\tb", "boxb", "Box b", "box B", "box b1",
-                      "box abcdefghi", "box b c", "box b,", "bo b", "boxes b", "a", "b box", "box 3", "box b\t", "box -"):
+                      "box abcdefghi", "box b c", "box b,", "bo b", "boxes b", "a", "b box", "box 3", "box b\t",
+                      "box -"):
             self.refused(wrong, 0)
             self.refused(f"box a\n{wrong}", 1)
             self.refused(f"box a\n{wrong}\nbox c", 1)
