@@ -202,6 +202,35 @@ class Map:
                         heappush(waiting, (bends + (heading != triple[2]), steps + 1, (*ahead, heading)))
         return told
 
+    def found(self):
+        """What is found first, with those found longest ago gone on from first: a way, or None, and the heights."""
+        heights, behinds = {}, {}
+        begins = [(*ahead, heading) for point in sorted(self.one) for heading, ahead in self.steps(point)]
+        waiting = [(0, 1, turn, triple, None) for turn, triple in enumerate(begins)]
+        turn = len(waiting)
+        while waiting:
+            bends, steps, _, triple, behind = heappop(waiting)
+            if triple in heights:
+                continue
+            heights[triple] = (bends, steps)
+            behinds[triple] = behind
+            if triple[:2] in self.free:
+                for heading, ahead in self.steps(triple[:2]):
+                    if heading != BACK[triple[2]]:
+                        bent = bends + (heading != triple[2])
+                        heappush(waiting, (bent, steps + 1, turn, (*ahead, heading), triple))
+                        turn += 1
+        ends = [(height, triple) for triple, height in heights.items() if triple[:2] in self.other]
+        return (self.way_back(behinds, min(ends)[1]) if ends else None), heights
+
+    def way_back(self, behinds, triple):
+        """The points of the way that led to a triple."""
+        points = []
+        while triple is not None:
+            points.insert(0, triple[:2])
+            (x, y), triple = HEADINGS[triple[2]], behinds[triple]
+        return [(points[0][0] - x, points[0][1] - y)] + points
+
     def best(self):
         """The bends and steps of a best way, even of those that go straight back, or None if there is none."""
         ends = [height for triple, height in self.heights(True).items() if triple[:2] in self.other]

@@ -3,7 +3,7 @@
 import unittest
 from random import Random
 
-from tests.helper import HEADINGS, Map, others, spoil
+from tests.helper import HEADINGS, Agreeing, Map, others, spoil
 from wheresay.answers import Led, Walled
 from wheresay.errors import BadBlocks
 from wheresay.lines import led
@@ -160,6 +160,50 @@ class Ways(Base):
                 self.walled(blocks, one, other)
             else:
                 self.led(blocks, one, other)
+
+
+class Found(unittest.TestCase):
+    """Which way and which heights are told is free, but they stay the same: those that are found first."""
+
+    def found(self, blocks, one, other):
+        way, heights = Map(blocks, one, other).found()
+        told = led(blocks, one, other)
+        if way is None:
+            self.assertIs(told.__class__, Walled)
+            self.assertEqual(told.points, sorted({triple[:2] for triple in heights}))
+        else:
+            self.assertIs(told.__class__, Led)
+            self.assertEqual(told.points, way)
+            self.assertEqual(list(told.heights.items()), list(heights.items()))
+
+    def test_ways(self):
+        for blocks, way in (
+                ({"a": (0, 0, 1, 1), "b": (6, 6, 1, 1)}, [(x, 1) for x in range(1, 7)] + [(6, y) for y in range(2, 7)]),
+                ({"a": (0, 0, 3, 3), "b": (9, 8, 3, 3), "c": (4, 4, 3, 2)},
+                 [(x, 3) for x in range(3, 10)] + [(9, y) for y in range(4, 9)]),
+                ({"a": (0, 0, 1, 1), "b": (8, 0, 1, 1), "c": (4, 0, 1, 1)},
+                 [(1, 0), (1, -1)] + [(x, -1) for x in range(2, 9)] + [(8, 0)]),
+                (NEAR, [(1, 0), (2, 0)])):
+            self.assertEqual(led(blocks, "a", "b").points, way)
+
+    def test_few_blocks(self):
+        for blocks in (NEAR, APART, WALLS, TIGHT):
+            for one in blocks:
+                for other in blocks:
+                    if one != other:
+                        self.found(blocks, one, other)
+
+    def test_many_blocks(self):
+        rng = Random("found")
+        for most in (1, 3, 5):
+            for _ in range(60):
+                blocks = any_blocks(rng, most)
+                self.found(blocks, *rng.sample(list(blocks), 2))
+
+    def test_blocks_at_the_bounds(self):
+        blocks = {"a": (-30, -30, 1, 1), "b": (30, 30, 20, 20)}
+        self.found(blocks, "a", "b")
+        self.found(blocks, "b", "a")
 
 
 class NoWay(Base):
@@ -354,6 +398,16 @@ class OfLed(Base):
         for triple in self.heights:
             self.no(self.points, {one: height for one, height in self.heights.items() if one != triple})
 
+    def test_each_height_left_out_of_level_ones(self):
+        # Here a step leads at once to the other, and nothing else does, so all others may lie as low as they will.
+        there = Map(TIGHT, "north", "a")
+        for low in ((0, 1), (-9, 1), (-9, -9), (-10 ** 30, 0)):
+            heights = {triple: (0, 1) if triple[:2] in there.other else low for triple in there.heights()}
+            self.yes([(0, -1), (0, 0)], heights, TIGHT, "north", "a")
+            for triple in heights:
+                left = {one: height for one, height in heights.items() if one != triple}
+                self.no([(0, -1), (0, 0)], left, TIGHT, "north", "a")
+
     def test_each_height_more_or_less(self):
         there = Map(APART, "a", "b")
         shown = 0
@@ -428,6 +482,28 @@ class OfLed(Base):
         blocks = {**APART, "c": (-5, -5, 1, 1)}
         heights = Map(blocks, "a", "b").heights()
         self.yes(self.points, {**heights, (-5, -5, "right"): (-9, -9), (-4, -4, "up"): (-9, 9)}, blocks)
+
+    def test_heights_beyond_the_frame_count_for_nothing(self):
+        # However far off a point is, it is none of those in the frame.
+        outside = [(x, y) for x in range(-25, 35) for y in range(-25, 35) if not (-1 <= x <= 6 and -1 <= y <= 3)]
+        more = {(x, y, heading): (-9, -9) for x, y in outside for heading in HEADINGS}
+        self.yes(self.points, {**self.heights, **more})
+        self.yes(self.points, {**more, **self.heights})
+        for far in (10 ** 30, -10 ** 30):
+            for triple in ((far, 1, "right"), (4, far, "down"), (far, far, "up")):
+                self.yes(self.points, {**self.heights, triple: (-9, -9)})
+
+    def test_triples_that_are_none_but_are_found_so(self):
+        # In a dict True is found as 1 is, but such triples are none, and those with the number aren't told then.
+        tried = 0
+        for (x, y, heading), height in self.heights.items():
+            wrongs = [(True, y, heading)] * (x == 1) + [(x, True, heading)] * (y == 1)
+            for wrong in wrongs + [(x, y, Agreeing())] * (heading == "left"):
+                heights = {triple: height for triple, height in self.heights.items() if triple != (x, y, heading)}
+                self.no(self.points, {**heights, wrong: height})
+                self.yes(self.points, {**heights, (x, y, heading): height})
+                tried += 1
+        self.assertGreater(tried, 40)
 
     def test_heights_of_free_points_count_though_no_way_leads_there(self):
         # From beyond the frame no step leads to the right.
@@ -541,6 +617,33 @@ class OfWalled(unittest.TestCase):
             self.no(sorted(INSIDE + [wrong]))
         self.no([(0, 0)], TIGHT)
         self.no([(99, 99)], TIGHT)
+
+    def test_points_beyond_the_frame(self):
+        for x in range(-25, 35):
+            for y in range(-25, 35):
+                if not (-4 <= x <= 12 and -4 <= y <= 12):
+                    self.no(sorted(INSIDE + [(x, y)]))
+                    self.no([(x, y)], TIGHT)
+        for far in (10 ** 30, -10 ** 30):
+            self.no(sorted(INSIDE + [(far, 0)]))
+            self.no(sorted(INSIDE + [(0, far)]))
+
+    def test_changed_points(self):
+        rng = Random("points")
+        free = sorted(Map(WALLS, "a", "b").free)
+        outside = [point for point in free if point not in INSIDE]
+        shown = 0
+        for _ in range(300):
+            one, other, points = rng.choice([
+                ("a", "b", INSIDE), ("b", "a", outside), ("a", "b", outside), ("b", "a", free), ("a", "north", INSIDE)])
+            for _ in range(rng.randint(0, 2)):
+                points = sorted(set(points) ^ {rng.choice(INSIDE), rng.choice(outside)})
+            if rng.random() < 0.2:
+                points = rng.sample(points, len(points))
+            wanted = Map(WALLS, one, other).walls(points)
+            shown += wanted
+            self.assertIs(Walled(points).shows(WALLS, one, other), wanted)
+        self.assertGreater(shown, 20)
 
     def test_points_from_which_steps_lead_on(self):
         # Free, but outside of the walls: then all there must be told.

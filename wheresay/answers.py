@@ -2,7 +2,7 @@
 
 from wheresay.blocks import Field, can_be_led
 from wheresay.heights import heights_show, points_show, way_height
-from wheresay.kinds import is_whole
+from wheresay.kinds import is_pair, is_whole
 from wheresay.places import are_places, keep_all, part_of
 from wheresay.shares import is_share, plus, share
 from wheresay.sheets import Sheet, has_part, is_saying_of
@@ -16,7 +16,8 @@ def copied(value):
     if isinstance(value, tuple):
         return tuple([copied(one) for one in value])
     if isinstance(value, dict):
-        return {key: copied(one) for key, one in value.items()}
+        # Pairs of numbers hold nothing to copy.
+        return {key: one if is_pair(one) else copied(one) for key, one in value.items()}
     return value
 
 

@@ -1,20 +1,16 @@
 """What shows that a way is the best one, and what shows that there is none."""
 
-from wheresay.blocks import heading_of, is_triple
+from wheresay.blocks import BARRED, FREE, HEADINGS, heading_of, is_triple
 from wheresay.kinds import is_pair
 
 FIRST_HEIGHT = (0, 1)
+# Below each height, so that a step to what is barred asks for nothing.
+NO_HEIGHT = ()
 
 
 def are_points(value):
     """Tell whether a value is a list of points."""
     return isinstance(value, list) and all([is_pair(point) for point in value])
-
-
-def height_after(height, triple, ahead):
-    """Tell the height of a triple, reached by a step from one of this height."""
-    bend = 0 if triple[2] == ahead[2] else 1
-    return height[0] + bend, height[1] + 1
 
 
 def way_height(field, points):
@@ -33,54 +29,75 @@ def way_height(field, points):
 
 
 def counting(field, heights):
-    """Tell those of the heights that count: of points that are free or in the other block."""
-    told = {}
+    """Tell the heights that count, by spots: those of free points, and those of points in the other block."""
+    marks = field.marks * len(HEADINGS)
+    free = {}
+    ends = {}
     for triple, height in heights.items():
         if is_triple(triple):
-            point = (triple[0], triple[1])
-            if field.is_free(point) or field.is_end(point):
-                told[triple] = height
+            spot = field.spot_of(triple)
+            if marks[spot] == FREE:
+                free[spot] = height
+            elif marks[spot] != BARRED:
+                ends[spot] = height
+    return free, ends
+
+
+def by_spots(field, free, ends):
+    """Tell what is told of each spot; of one that isn't barred, and of which nothing is told, what is too high."""
+    most = max([bends for bends, steps in free.values()], default=0)
+    too_high = (max(most, 0) + 2, 0)
+    told = [NO_HEIGHT if mark == BARRED else too_high for mark in field.marks] * len(HEADINGS)
+    for spot, height in free.items():
+        told[spot] = height
+    for spot, height in ends.items():
+        told[spot] = height
     return told
 
 
-def is_low(told, triple, most):
-    """Tell whether a triple has a height, a pair that is no more than the most one."""
-    height = told.get(triple)
-    return is_pair(height) and height <= most
+def are_first_low(field, told):
+    """Tell whether the heights at the first steps are no more than the first height."""
+    leaps, size = field.leaps, field.size
+    return all([told[spot + leaps[spot // size]] <= FIRST_HEIGHT for spot in field.begin_spots()])
 
 
-def are_low_ahead(field, told, triple):
-    """Tell whether the heights at the steps from a triple are no more than its own one lets them be."""
-    if not field.is_free((triple[0], triple[1])):
-        return True
-    height = told[triple]
-    return all([is_low(told, ahead, height_after(height, triple, ahead)) for ahead in field.next_steps(triple)])
+def are_low_ahead(field, told, free):
+    """Tell whether the heights at the steps from each free point are no more than its own one lets them be."""
+    leaps, sides, size = field.leaps, field.sides, field.size
+    for spot, (bends, steps) in free.items():
+        turn = spot // size
+        if told[spot + leaps[turn]] > (bends, steps + 1):
+            return False
+        bent = (bends + 1, steps + 1)
+        one, other = sides[turn]
+        if told[spot + one] > bent or told[spot + other] > bent:
+            return False
+    return True
 
 
 def heights_show(field, heights, best):
     """Tell whether heights show that no way is better than one of the best bends and steps."""
     if not isinstance(heights, dict):
         return False
-    told = counting(field, heights)
-    if not all([is_pair(height) for height in told.values()]):
+    free, ends = counting(field, heights)
+    if not all([is_pair(height) for height in list(free.values()) + list(ends.values())]):
         return False
-    if not all([is_low(told, triple, FIRST_HEIGHT) for triple in field.first_steps()]):
+    if min(ends.values(), default=None) != best:
         return False
-    if not all([are_low_ahead(field, told, triple) for triple in told]):
-        return False
-    ends = [height for triple, height in told.items() if field.is_end((triple[0], triple[1]))]
-    return min(ends, default=None) == best
+    told = by_spots(field, free, ends)
+    return are_first_low(field, told) and are_low_ahead(field, told, free)
 
 
 def points_show(field, points):
     """Tell whether points show that there is no way."""
     if not are_points(points) or not all([point < ahead for point, ahead in zip(points, points[1:])]):
         return False
-    if not all([field.is_free(point) for point in points]):
-        return False
-    within = {point: True for point in points}
-    steps = field.first_steps()
-    for point in points:
-        steps.extend(field.steps_from(point))
-    # A point in the other block is none of these, so a step that leads there fails, too.
-    return all([(across, down) in within for across, down, heading in steps])
+    cells = [field.cell_of(point) for point in points]
+    marks = list(field.marks)
+    for cell in cells:
+        if marks[cell] != FREE:
+            return False
+        marks[cell] = BARRED
+    # What isn't barred now is another free point, or in the other block.
+    cells.extend(field.begin_cells())
+    return all([marks[cell + leap] == BARRED for cell in cells for leap in field.leaps])

@@ -17,7 +17,13 @@ def is_number(value, least, most):
 
 def is_pair(value):
     """Tell whether a value is a pair of whole numbers."""
-    return isinstance(value, tuple) and len(value) == 2 and all([is_whole(one) for one in value])
+    if not isinstance(value, tuple) or len(value) != 2:
+        return False
+    one, other = value
+    # Spelled out, without further calls, as this is asked of each height of a field.
+    if isinstance(one, bool) or isinstance(other, bool):
+        return False
+    return isinstance(one, int) and isinstance(other, int)
 
 
 def is_name(value):
